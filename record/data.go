@@ -31,6 +31,13 @@ func layoutOf(t int) (layout, bool) {
 	return layout{}, false
 }
 
+// Layout is how a type's data begins: so many bytes, and so many names behind them (0 and 0 of TXT, and of what is not Known).
+// It stands beside the chapter's calls: package message reads names in data that has pointers yet.
+func Layout(t int) (ahead, names int) {
+	l, _ := layoutOf(t)
+	return l.ahead, l.names
+}
+
 // Data tells whether data may be.
 func Data(t int, d string) bool {
 	if len(d) > api.MaxData {

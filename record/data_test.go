@@ -174,3 +174,23 @@ func FuzzData(f *testing.F) {
 	f.Add(api.TXT, "\x02ab\x00")
 	f.Fuzz(func(t *testing.T, kind int, d string) { asTold(t, kind, d) })
 }
+
+// TestLayout holds that a type's data begins as Layout says: so many bytes, and so many names.
+func TestLayout(t *testing.T) {
+	r := rand.New(rand.NewSource(9))
+	for _, kind := range types() {
+		ahead, names := record.Layout(kind)
+		for range 50 {
+			d := some(r, kind)
+			l := places(kind, d)
+			if _, ok := told(kind, d); !ok {
+				continue
+			}
+			is(t, fmt.Sprintf("Layout(%d): names of %q", kind, d), len(l), names)
+			if names > 0 {
+				is(t, fmt.Sprintf("Layout(%d): ahead of the names of %q", kind, d), l[0].at, ahead)
+			}
+			is(t, fmt.Sprintf("Layout(%d): no more than %q", kind, d), ahead <= len(d), true)
+		}
+	}
+}
