@@ -272,3 +272,22 @@ func TestHandedIn(t *testing.T) {
 	record.Target(l[0])
 	is(t, "P3.4 what is handed in, its spare room", fmt.Sprintf("%#v", spare), before)
 }
+
+// TestFolded holds what is compared of a record: names in small letters, those in its data too, and no TTL.
+func TestFolded(t *testing.T) {
+	mx := api.RR{Name: wire("WWW a"), Type: api.MX, Class: 3, TTL: 5, Data: "AB" + wire("Mx A")}
+	is(t, "Folded", record.Folded(mx), api.RR{Name: wire("www a"), Type: api.MX, Class: 3, Data: "AB" + wire("mx a")})
+	other := api.RR{Name: "A", Type: 99, Class: 1, TTL: 5, Data: wire("A")}
+	is(t, "Folded of what has no names", record.Folded(other), api.RR{Name: "A", Type: 99, Class: 1, Data: wire("A")})
+}
+
+// TestCopied holds that the same records are told, in memory of their own.
+func TestCopied(t *testing.T) {
+	l := []api.RR{record.MakeName(wire("A"), api.NS, 5, wire("NS a")), {Name: "x", Type: -1, Class: -1, TTL: -1}}
+	got := record.Copied(l)
+	is(t, "Copied", got, l)
+	is(t, "Copied: memory", shares(got[0].Name, l[0].Name) || shares(got[0].Data, l[0].Data) || shares(got[1].Name, l[1].Name), false)
+	got[0].TTL = 6
+	is(t, "Copied, and changed", l[0].TTL, 5)
+	is(t, "Copied of none", len(record.Copied(nil)), 0)
+}
